@@ -1,0 +1,1 @@
+"""Programs over trees, and where their cells are held, let go and used anew."""
