@@ -1,6 +1,6 @@
 """What is wrong in a program first, and what its registers have at each row."""
 
-from justfreed.errors import NotChecked
+from justfreed.errors import BadName, NotChecked
 from justfreed.programs import need_program
 from justfreed.tables import Tables, arg_words, is_named, nexts, reads, word_given
 
@@ -22,6 +22,20 @@ def checked(program):
     what = check(program)
     if what is not None:
         raise NotChecked(what)
+
+
+def is_named_in(program, name):
+    """Whether any object is the name of a function of the program."""
+    _, functions = program
+    return type(name) is str and name in [other for other, _, _, _ in functions]
+
+
+def index_named(program, name):
+    """The index of the function of a checked program that has the name; raises BadName if none has it."""
+    if not is_named_in(program, name):
+        raise BadName("this is no name of a function")
+    _, functions = program
+    return [other for other, _, _, _ in functions].index(name)
 
 
 def registers(program):

@@ -9,6 +9,7 @@ DIGITS = "0123456789"
 NAME_SIGNS = "abcdefghijklmnopqrstuvwxyzABCDEFGHIJKLMNOPQRSTUVWXYZ0123456789"
 WORDS = ("case", "drop", "entry", "free", "fun", "give", "hold", "in", "into", "kind", "number")
 GREATEST_NUMBER = 1000000000000
+REGISTERS = 32
 MOST_ENTRIES = 400
 
 
@@ -25,7 +26,7 @@ def is_number(thing):
 
 def is_register(thing):
     """Whether any object is a register."""
-    return is_integer(thing, 0, 31)
+    return is_integer(thing, 0, REGISTERS - 1)
 
 
 def is_next(thing):
@@ -171,20 +172,24 @@ ROW_FORMS = {
 }
 
 
-def is_row(thing):
-    """Whether any object has the form of a row."""
-    if type(thing) is not tuple or len(thing) == 0:
-        return False
-    word = thing[0]
-    if type(word) is not str or word not in ROW_FORMS:
-        return False
-    form = ROW_FORMS[word]
+def begins_with_word(thing):
+    """Whether any object is a tuple that begins with a str."""
+    return type(thing) is tuple and len(thing) > 0 and type(thing[0]) is str
+
+
+def has_parts(thing, form):
+    """Whether behind a tuple's word there stand just as many parts as in the form, each of which fits."""
     if len(thing) != len(form) + 1:
         return False
     for fits, part in zip(form, thing[1:]):
         if not fits(part):
             return False
     return True
+
+
+def is_row(thing):
+    """Whether any object has the form of a row."""
+    return begins_with_word(thing) and thing[0] in ROW_FORMS and has_parts(thing, ROW_FORMS[thing[0]])
 
 
 def is_function(thing):

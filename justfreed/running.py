@@ -1,11 +1,10 @@
 """Plain runs of programs."""
 
-from justfreed.checks import checked
-from justfreed.errors import BadArgs, BadLimit, BadName
-from justfreed.programs import GREATEST_NUMBER, are_sayings, is_integer, is_number
+from justfreed.checks import checked, index_named
+from justfreed.errors import BadArgs, BadLimit
+from justfreed.programs import GREATEST_NUMBER, REGISTERS, are_sayings, is_integer, is_number
 from justfreed.tables import Tables
 
-REGISTERS = 32
 MOST_ROWS = 100000
 MOST_SAID = 4000
 
@@ -36,9 +35,9 @@ class Runner:
 def run(program, name, args, most):
     """("ended", result) if the function ends with at most so many rows done, else ("on",)."""
     checked(program)
+    _, functions = program
+    _, params, result, rows = functions[index_named(program, name)]
     tables = Tables(program)
-    need_name(tables, name)
-    params, result, rows = tables.functions[name]
     need_args(tables, params, args)
     need_limit(most)
     runner = Runner(tables)
@@ -48,12 +47,6 @@ def run(program, name, args, most):
         if not runner.calls:
             return ("ended", result_said(runner, result))
     return ("on",)
-
-
-def need_name(tables, name):
-    """Raises BadName for what is no name of a function."""
-    if type(name) is not str or name not in tables.functions:
-        raise BadName("this is no name of a function")
 
 
 def need_args(tables, params, args):

@@ -66,6 +66,13 @@ def reads(tables, row, result):
     return []
 
 
+def uses(tables, row, result):
+    """The registers that a row uses, in the order of its operands, as often as they stand there."""
+    if row[0] == "match":
+        return [row[1]]
+    return [r for r, word in reads(tables, row, result) if word != "number"]
+
+
 def word_given(tables, row):
     """What the register r of a number, add, sub, make or call gets."""
     if row[0] == "make":

@@ -6,8 +6,9 @@ WORDS = ("number", "add", "sub", "less", "make", "match", "call", "give")
 class Maker:
     """Makes one program."""
 
-    def __init__(self, chance, registers=7, rows=14):
+    def __init__(self, chance, registers=7, rows=14, joins=0.5):
         self.chance = chance
+        self.joins = joins
         self.many_registers = registers
         self.most_rows = rows
         self.kinds = self.make_kinds()
@@ -59,7 +60,7 @@ class Maker:
         """The index of a row at which registers have so much, new or (now and then) an old one."""
         fitting = [at for at, state in enumerate(self.states)
                    if self.rows[at] is not None and all(has.get(r) == word for r, word in state.items())]
-        if fitting and self.chance.random() < 0.5:
+        if fitting and self.chance.random() < self.joins:
             return self.chance.choice(fitting)
         at = len(self.rows)
         self.rows.append(None)

@@ -127,6 +127,43 @@ def program_of(*rows, params=(), result="number", kinds=LIST_KINDS, name="f", ot
     return (kinds, ((name, params, result, rows),) + tuple(others))
 
 
+SIZE_KINDS = (("S", tuple((f"S{size}", ("number",) * size) for size in range(5))), ("T", (("T2", ("S", "S")), ("T0", ()))))
+
+GIVE = program_of(("give", 0), params=("List",), result="List")
+TWO = program_of(("give", 0), params=("List", "List"), result="List")
+NUMBER = program_of(("number", 2, 0, 1), ("give", 2), params=("List", "List"))
+
+# Two ways of unlike length to row 3; behind it a call and a give.
+JOIN = program_of(
+    ("less", 1, 1, 1, 2), ("add", 1, 1, 1, 3), ("add", 1, 1, 1, 4), ("call", 0, "f", (0, 1), 5), ("add", 1, 1, 1, 3),
+    ("give", 0), params=("List", "number"), result="List")
+
+# Rows 1 and 0 are a loop, left by row 2.
+LOOP = program_of(("less", 1, 1, 1, 2), ("add", 1, 1, 1, 0), ("give", 0), params=("List", "number"), result="List")
+
+# A branch for each size, and a make of the same size on it.
+SIZES = program_of(
+    ("match", 0, tuple((tuple(range(1, 1 + size)), 1 + size) for size in range(5))),
+    *[("make", 0, f"S{size}", tuple(range(1, 1 + size)), 6) for size in range(5)],
+    ("give", 0), params=("S",), result="S", kinds=SIZE_KINDS)
+
+# Two cells are taken apart, one behind the other, and two made; all of them of size 2.
+PAIRS = program_of(
+    ("match", 0, (((2, 3), 1), ((), 5))), ("match", 1, (((4, 5), 2), ((), 6))), ("make", 6, "T2", (2, 3), 3),
+    ("make", 7, "T2", (4, 5), 4), ("call", 8, "f", (6, 7), 7), ("give", 1), ("make", 8, "T2", (2, 3), 7), ("give", 8),
+    params=("T", "T"), result="T", kinds=SIZE_KINDS)
+
+# One maker with one field, so that a match has one branch.
+CHAIN_KINDS = (("V", (("V1", ("V",)),)), ("W", (("W0", ()), ("W1", ("V",)))))
+
+
+def chain(matches, makes):
+    """Cells taken apart one behind the other, then made one around the other."""
+    rows = [("match", at, (((at + 1,), at + 1),)) for at in range(matches)]
+    rows += [("make", matches, "V1", (matches,), matches + at + 1) for at in range(makes)]
+    return program_of(*rows, ("give", matches), params=("V",), result="V", kinds=CHAIN_KINDS)
+
+
 def replaced(thing, path, part):
     """A copy of nested tuples in which part stands at the path of indexes."""
     if not path:
