@@ -12,7 +12,7 @@ MOST_DEEDS = 60
 # Beyond the holds that any way can bring: there are 4,000 entries at most, and 120 deeds at most for each.
 MANY = 1000000
 # What is within these bounds always fits, and nothing changes.
-FREE = (-MANY, MANY, 0)
+FREE = (-1000000, 1000000, 0)
 
 
 def is_token(thing):
@@ -42,6 +42,11 @@ def are_deeds(thing):
     return is_tuple_of(thing, 0, MOST_DEEDS, is_deed)
 
 
+def is_any_tuple(thing):
+    """Whether any object is a tuple."""
+    return type(thing) is tuple
+
+
 def fits_row(row, thing):
     """Whether any object is what a placing may have for a row."""
     if type(thing) is not tuple or len(thing) != 3:
@@ -59,11 +64,6 @@ def fits_function(function, thing):
     if not is_pair(thing, are_deeds, is_any_tuple) or len(thing[1]) != len(rows):
         return False
     return all([fits_row(row, part) for row, part in zip(rows, thing[1])])
-
-
-def is_any_tuple(thing):
-    """Whether any object is a tuple."""
-    return type(thing) is tuple
 
 
 def fits_program(program, thing):
@@ -262,10 +262,10 @@ def first_fall(line, leads):
 
 
 def tells_more(numbers, number):
-    """Whether a number may fall first that comes to a row behind others.
+    """Whether a number that comes to a row behind others may be the one with which the first way falls.
 
-    An effect wants so much at least, or just so much. Of two unlike numbers one falls by the latter, so a third one
-    can only fall ahead of both by the former, and only if it is the least.
+    Wanted is so much at least, or just so much. Where it is just so much, one of any two unlike numbers is wrong.
+    So behind two others a number can be wrong ahead of them only where it is so much at least, and it is the least.
     """
     if len(numbers) < 2:
         return number not in numbers

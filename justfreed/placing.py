@@ -35,8 +35,10 @@ def drops_unneeded(held, needed):
 
 def kept_behind(course, needed, index):
     """The ascending registers that are needed at some next of a row that does not set them on the way there."""
-    ahead = zip(course.leads[index], course.settings[index])
-    return sorted({r for goto, setting in ahead for r in needed[goto] if keeps(setting, r)})
+    kept = []
+    for goto, setting in zip(course.leads[index], course.settings[index]):
+        kept.extend([r for r in needed[goto] if keeps(setting, r)])
+    return sorted(set(kept))
 
 
 def told_holds(used, kept):

@@ -112,6 +112,28 @@ class LanguageTest(unittest.TestCase):
             for word in re.findall(r"\btype\b(?!\()", code):
                 self.fail((name, word))
 
+    def test_no_local_name_is_that_of_an_import_or_a_class(self):
+        for name, text in files().items():
+            tree = ast.parse(text)
+            barred = {alias.name for node in tree.body if isinstance(node, ast.ImportFrom) for alias in node.names}
+            barred |= {node.name for node in tree.body if isinstance(node, ast.ClassDef)}
+            for function in ast.walk(tree):
+                if isinstance(function, ast.FunctionDef):
+                    for node in ast.walk(function):
+                        if isinstance(node, ast.Name) and isinstance(node.ctx, ast.Store):
+                            self.assertNotIn(node.id, barred, (name, node.lineno))
+                        if isinstance(node, ast.arg):
+                            self.assertNotIn(node.arg, barred, (name, node.lineno))
+
+    def test_values_at_module_level_are_written_out(self):
+        for name, text in files().items():
+            for node in ast.parse(text).body:
+                if isinstance(node, ast.Assign):
+                    self.assertEqual([type(target) for target in node.targets], [ast.Name], (name, node.lineno))
+                    for part in ast.walk(node.value):
+                        self.assertNotIsInstance(part, (ast.Call, ast.BinOp, ast.ListComp, ast.DictComp, ast.SetComp, ast.Set),
+                                                 (name, node.lineno))
+
     def test_methods_that_are_called(self):
         for name, text in files().items():
             for node in ast.walk(ast.parse(text)):

@@ -40,6 +40,18 @@ class NeedsTest(unittest.TestCase):
     def test_ascending_without_duplicates(self):
         self.needed((("call", 9, "f", (3, 1, 3, 0), 1), ("give", 9)), (0, 1, 3), (9,), params=("List",) * 4, result="List")
 
+    def test_ascending_whatever_the_registers(self):
+        params = ("number", "List") + ("number",) * 5 + ("List",)
+        rows = (("make", 8, "Nil", (), 1), ("make", 16, "Nil", (), 2), ("call", 17, "g", (16, 1, 8, 7), 3), ("give", 17))
+        self.needed(rows, (1, 7), (1, 7, 8), (1, 7, 8, 16), (17,), params=params, result="List",
+                    others=(("g", ("List",) * 4, "List", (("give", 0),)),))
+        rows = (("make", 8, "Nil", (), 1), ("call", 9, "g", (8, 1), 2), ("give", 9))
+        self.needed(rows, (1,), (1, 8), (9,), params=params[:2], result="List",
+                    others=(("g", ("List", "List"), "List", (("give", 0),)),))
+        rows = (("make", 8, "Nil", (), 1), ("call", 1, "g", (8, 1), 2), ("give", 1))
+        self.needed(rows, (1,), (1, 8), (1,), params=params[:2], result="List",
+                    others=(("g", ("List", "List"), "List", (("give", 0),)),))
+
     def test_set_ahead_of_a_use(self):
         rows = (("make", 0, "Nil", (), 1), ("give", 0))
         self.needed(rows, (), (0,), params=("List",), result="List")

@@ -82,6 +82,16 @@ class PlacedTest(unittest.TestCase):
             ("give", 7), params=("Tree", "Tree", "number", "Tree", "Tree", "number"), result="Tree", kinds=MANY_KINDS)
         self.told(program, {("entry",): drop(0), ("edge", 0, 1): drop(1, 2, 4, 6), ("edge", 0, 2): drop(1, 4)})
 
+    def test_ascending_whatever_the_registers(self):
+        # A set of 1 and 8 comes in another order by itself.
+        other = ("g", (LIST, LIST, LIST, LIST), LIST, (("give", 0),))
+        program = program_of(("make", 8, "Nil", (), 1), ("call", 2, "g", (8, 1, 1, 8), 2), ("give", 2), params=("number", LIST),
+                             result=LIST, others=(other,))
+        self.told(program, {("before", 1): hold(1, 8)})
+        program = program_of(("make", 8, "Nil", (), 1), ("less", 0, 0, 2, 3), ("call", 0, "g", (8, 1, 8, 1), 3), ("give", 3),
+                             params=("number", LIST, "number", "number"), others=(other,))
+        self.told(program, {("before", 2): hold(1, 8), ("edge", 1, 1): drop(1, 8), ("edge", 2, 0): drop(0)})
+
     def test_round_a_loop(self):
         self.told(program_of(("call", 3, "f", (0, 1), 1), ("less", 1, 1, 0, 2), ("give", 1), params=(LIST, "number")),
                   {("before", 0): hold(0), ("edge", 1, 1): drop(0)})
