@@ -13,6 +13,7 @@ from justfreed.ways import comes_to, first_way, needs, use_ahead
 from tests import reference_placings as reference
 from tests.making import Maker
 from tests.making_placings import changed
+from tests.placings import bare, hold, spots_of, with_deeds
 from tests.reference import nexts_of
 from tests.samples import CHAIN_KINDS, program_of
 
@@ -65,6 +66,22 @@ def ways_up_to(function, most):
         if total > most:
             return length
     return 12
+
+
+def looping(chance):
+    """Rows that lead on and back again, and holds and drops of one register on all of their ways."""
+    many = chance.randint(2, 7)
+    rows = [("less", 1, 1, chance.choice((at + 1, at + 1, chance.randrange(many))), chance.choice((at + 1, chance.randrange(many))))
+            for at in range(many - 1)]
+    program = program_of(*rows, ("give", 0), params=("List", "number"), result="List")
+    placing = bare(program)
+    for index, spot in spots_of(placing):
+        if chance.random() < 0.35:
+            deeds = tuple((chance.choice(("hold", "hold", "drop")), 0) for _ in range(chance.randint(1, 3)))
+            placing = with_deeds(placing, index, spot, deeds)
+    if chance.random() < 0.5:
+        placing = with_deeds(placing, 0, ("entry",), hold(0) * chance.randint(1, 12))
+    return program, placing
 
 
 class WaysByChanceTest(unittest.TestCase):
@@ -139,6 +156,20 @@ class PlacingsByChanceTest(unittest.TestCase):
         self.assertEqual(held, tuple(expected))
         self.assertEqual(in_place(program, placing), reference.in_place(program, placing))
         told["held"] += held != ()
+
+    def test_judge_round_loops(self):
+        told = Counter()
+        for seed in range(1500):
+            program, placing = looping(random.Random(seed))
+            if check(program) is not None:
+                continue
+            result = judge(program, placing)
+            self.assertEqual(result, reference.judge(program, placing), (program, placing))
+            told[result[0]] += 1
+            if result[0] == "wrong":
+                told[result[3][0]] += 1
+                told["long"] += len(result[2]) >= len(program[1][0][3])
+        self.assertGreater(min(told[word] for word in ("right", "hold", "drop", "use", "left", "long")), 5, told)
 
     def test_judge_by_all_ways(self):
         told = Counter()
