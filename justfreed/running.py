@@ -41,11 +41,11 @@ def run(program, name, args, most):
     need_args(tables, params, args)
     need_limit(most)
     runner = Runner(tables)
-    runner.calls.append(Call(rows, [value_said(runner, arg) for arg in args]))
+    runner.calls.append(Call(rows, [value_said(tables, runner.cells, arg) for arg in args]))
     for _ in range(most):
         do_row(runner)
         if not runner.calls:
-            return ("ended", result_said(runner, result))
+            return ("ended", result_said(tables, runner.cells, result, runner.given))
     return ("on",)
 
 
@@ -71,34 +71,35 @@ def need_limit(most):
         raise BadLimit("this is no integer from 0 to 100000")
 
 
-def value_said(runner, arg):
-    """The number that an argument is, or the index of the first cell of the tree that it says."""
+def value_said(tables, cells, arg):
+    """The number that an argument is, or the index of the first cell of the tree that it says.
+
+    The tree's cells are put behind the cells that there are, in the order of the sayings.
+    """
     if type(arg) is int:
         return arg
+    many = len([entry for entry in arg if type(entry) is str])
+    found = []
     values = []
     # From behind, so that what stands at a maker's fields is there ahead of the maker, the first field last.
     for entry in arg[::-1]:
         if type(entry) is int:
             values.append(entry)
         else:
-            _, _, fields = runner.tables.makers[entry]
+            _, _, fields = tables.makers[entry]
             at = len(values) - len(fields)
-            values[at:] = [made(runner, entry, values[at:][::-1])]
+            found.append((entry, values[at:][::-1]))
+            values[at:] = [len(cells) + many - len(found)]
+    cells.extend(found[::-1])
     return values[0]
 
 
-def made(runner, maker, values):
-    """The index of a new cell."""
-    runner.cells.append((maker, values))
-    return len(runner.cells) - 1
-
-
-def result_said(runner, word):
-    """What the run gave: a number, or a tree's sayings, or None if these are too many."""
+def result_said(tables, cells, word, given):
+    """What a run gave: a number, or a tree's sayings, or None if these are too many."""
     if word == "number":
-        return runner.given
+        return given
     said = []
-    pending = [(word, runner.given)]
+    pending = [(word, given)]
     while pending:
         # Shared parts can make a small run's tree too great to be said, so its sayings are counted as they come.
         if len(said) == MOST_SAID:
@@ -107,8 +108,8 @@ def result_said(runner, word):
         if wanted == "number":
             said.append(value)
         else:
-            maker, values = runner.cells[value]
-            _, _, fields = runner.tables.makers[maker]
+            maker, values = cells[value]
+            _, _, fields = tables.makers[maker]
             said.append(maker)
             pending.extend(list(zip(fields, values))[::-1])
     return tuple(said)
@@ -149,7 +150,8 @@ def do_less(runner, call, row):
 def do_make(runner, call, row):
     """A register gets a new tree."""
     _, r, maker, args, goto = row
-    call.has[r] = made(runner, maker, [call.has[arg] for arg in args])
+    runner.cells.append((maker, [call.has[arg] for arg in args]))
+    call.has[r] = len(runner.cells) - 1
     call.at = goto
 
 
