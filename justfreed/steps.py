@@ -158,7 +158,7 @@ def spots_behind(course, part, step):
 
 
 def leveled(leads, deeds, r, points, k):
-    """The deeds, by spot, of those that lead in among the points or out of them, when a register is raised by k there."""
+    """By spot, the deeds at those that lead in among the points or out of them, with the register raised by k there."""
     more = (("hold", r),) * abs(k)
     less = (("drop", r),) * abs(k)
     among = {point: True for point in points}

@@ -164,6 +164,30 @@ def chain(matches, makes):
     return program_of(*rows, ("give", matches), params=("V",), result="V", kinds=CHAIN_KINDS)
 
 
+# Gives the rest of a list, or a new empty list.
+TAIL = program_of(("match", 0, (((), 1), ((1, 2), 2))), ("make", 2, "Nil", (), 2), ("give", 2), params=("List",), result="List")
+# Gives its list; register 1 has a number, registers 3 and above have nothing.
+KEEP = program_of(("number", 1, 7, 1), ("give", 0), params=("List", "number"), result="List")
+# A cell around two others, that may be one; then it gives the second list.
+PAIR = program_of(("make", 2, "T2", (0, 1), 1), ("match", 2, (((3, 4), 2), ((), 3))), ("give", 4), ("give", 1),
+                  params=("S", "S"), result="S", kinds=SIZE_KINDS)
+BOTH = program_of(("make", 1, "T2", (0, 0), 1), ("give", 1), params=("S",), result="T", kinds=SIZE_KINDS)
+# Two cells taken apart one behind the other, and a cell of size 2 made.
+TWICE = program_of(("match", 0, (((), 3), ((2, 3), 1))), ("match", 3, (((), 3), ((4, 5), 2))),
+                   ("make", 1, "Cons", (2, 1), 3), ("give", 1), params=("List", "List"), result="List")
+# f calls g and goes on with what it gives.
+CALLS = program_of(("call", 1, "g", (0,), 1), ("give", 1), params=("List",), result="List",
+                   others=(("g", ("List",), "List", (("number", 1, 0, 1), ("give", 0))),))
+
+# Makes a list of as many ones as told.
+GROWS = program_of(("make", 1, "Nil", (), 1), ("number", 2, 1, 2), ("number", 3, 0, 3), ("less", 3, 0, 4, 6),
+                   ("make", 1, "Cons", (2, 1), 5), ("sub", 0, 0, 2, 3), ("give", 1), params=("number",), result="List")
+
+# Calls itself as often as told, and gives its list.
+DEEP = program_of(("number", 2, 1, 1), ("number", 3, 0, 2), ("less", 3, 1, 3, 5), ("sub", 1, 1, 2, 4),
+                  ("call", 0, "f", (0, 1), 5), ("give", 0), params=("List", "number"), result="List")
+
+
 def replaced(thing, path, part):
     """A copy of nested tuples in which part stands at the path of indexes."""
     if not path:

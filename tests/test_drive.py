@@ -9,25 +9,10 @@ from justfreed.placing import placed
 from justfreed.rooms import reusing
 from justfreed.running import run
 from tests.placings import bare, drop, free, hold, placing_of, with_deeds
-from tests.samples import LIST_PROGRAM, SIZE_KINDS, SIZES, cons, program_of
+from tests.samples import BOTH, CALLS, DEEP, GROWS, KEEP, LIST_PROGRAM, PAIR, SIZE_KINDS, SIZES, TAIL, TWICE, cons, program_of
 
 ALL = 100000
 NIL = ("Nil",)
-
-# Gives the rest of a list, or a new empty list.
-TAIL = program_of(("match", 0, (((), 1), ((1, 2), 2))), ("make", 2, "Nil", (), 2), ("give", 2), params=("List",), result="List")
-# Gives its list; register 1 has a number, registers 3 and above have nothing.
-KEEP = program_of(("number", 1, 7, 1), ("give", 0), params=("List", "number"), result="List")
-# A cell around two others, that may be one; then it gives the second list.
-PAIR = program_of(("make", 2, "T2", (0, 1), 1), ("match", 2, (((3, 4), 2), ((), 3))), ("give", 4), ("give", 1),
-                  params=("S", "S"), result="S", kinds=SIZE_KINDS)
-BOTH = program_of(("make", 1, "T2", (0, 0), 1), ("give", 1), params=("S",), result="T", kinds=SIZE_KINDS)
-# Two cells taken apart one behind the other, and a cell of size 2 made.
-TWICE = program_of(("match", 0, (((), 3), ((2, 3), 1))), ("match", 3, (((), 3), ((4, 5), 2))),
-                   ("make", 1, "Cons", (2, 1), 3), ("give", 1), params=("List", "List"), result="List")
-# f calls g and goes on with what it gives.
-CALLS = program_of(("call", 1, "g", (0,), 1), ("give", 1), params=("List",), result="List",
-                   others=(("g", ("List",), "List", (("number", 1, 0, 1), ("give", 0))),))
 
 
 class DriveTest(unittest.TestCase):
@@ -416,16 +401,12 @@ class StopsTest(DriveTest):
 
 
 class ResultsTest(DriveTest):
-    # Makes a list of as many ones as told.
-    GROWS = program_of(("make", 1, "Nil", (), 1), ("number", 2, 1, 2), ("number", 3, 0, 3), ("less", 3, 0, 4, 6),
-                       ("make", 1, "Cons", (2, 1), 5), ("sub", 0, 0, 2, 3), ("give", 1), params=("number",), result="List")
-
     def test_how_many_entries(self):
-        told = placed(self.GROWS)
-        self.assertEqual(judge(self.GROWS, told)[0], "right")
+        told = placed(GROWS)
+        self.assertEqual(judge(GROWS, told)[0], "right")
         for many in (0, 1, 1998, 1999, 2000, 2001, 30000):
             result = ("Cons", 1) * many + NIL if many * 2 + 1 <= 4000 else None
-            self.ends(self.GROWS, told, (many,), result, (5 + 3 * many, 0, 0, many + 1, 0, many + 1, many + 1))
+            self.ends(GROWS, told, (many,), result, (5 + 3 * many, 0, 0, many + 1, 0, many + 1, many + 1))
 
     def test_a_tree_that_shares_its_parts(self):
         kinds = (("Tree", (("Leaf", ()), ("Node", ("Tree", "Tree")))),)
@@ -454,25 +435,21 @@ class ResultsTest(DriveTest):
 
 
 class DeepTest(DriveTest):
-    # Calls itself as often as told, and gives its list.
-    DEEP = program_of(("number", 2, 1, 1), ("number", 3, 0, 2), ("less", 3, 1, 3, 5), ("sub", 1, 1, 2, 4),
-                      ("call", 0, "f", (0, 1), 5), ("give", 0), params=("List", "number"), result="List")
-
     def test_calls_thousands_deep(self):
-        told = placed(self.DEEP)
+        told = placed(DEEP)
         for many in (0, 1, 5000):
-            self.ends(self.DEEP, told, (cons([1]), many), cons([1]), (4 + 6 * many, 0, 0, 0, 0, 2, 2))
+            self.ends(DEEP, told, (cons([1]), many), cons([1]), (4 + 6 * many, 0, 0, 0, 0, 2, 2))
         # In each call the list is held once more at the entry, and let go behind the call.
-        placing = placing_of(self.DEEP, {("entry",): hold(0), ("before", 5): drop(0)})
-        self.assertEqual(judge(self.DEEP, placing)[0], "wrong")
-        self.ends(self.DEEP, placing, (cons([1]), 5000), cons([1]), (30004, 5001, 5001, 0, 0, 2, 2))
+        placing = placing_of(DEEP, {("entry",): hold(0), ("before", 5): drop(0)})
+        self.assertEqual(judge(DEEP, placing)[0], "wrong")
+        self.ends(DEEP, placing, (cons([1]), 5000), cons([1]), (30004, 5001, 5001, 0, 0, 2, 2))
 
     def test_calls_without_end(self):
         program = program_of(("call", 0, "f", (0,), 1), ("give", 0), params=("List",), result="List")
         self.assertEqual(drive(program, placed(program), "f", (NIL,), ALL), ("on", None, (ALL, 0, 0, 0, 0, 1, 1)))
 
     def test_long_lists_are_let_go_at_once(self):
-        kinds, (grows,) = ResultsTest.GROWS
+        kinds, (grows,) = GROWS
         f = ("f", ("number",), "number", (("call", 1, "grows", (0,), 1), ("give", 0)))
         program = (kinds, (f, ("grows",) + grows[1:]))
         told = placed(program)

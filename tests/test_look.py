@@ -7,8 +7,10 @@ from justfreed.machine import drive, look
 from justfreed.placing import placed
 from justfreed.rooms import reusing
 from tests.placings import bare, drop, free, hold, placing_of
-from tests.samples import LIST_PROGRAM, SIZES, cons, program_of
-from tests.test_drive import ALL, CALLS, KEEP, NIL, PAIR, TAIL, DeepTest
+from tests.samples import CALLS, DEEP, KEEP, LIST_PROGRAM, PAIR, SIZES, TAIL, cons, program_of
+
+ALL = 100000
+NIL = ("Nil",)
 
 
 def num(number):
@@ -147,8 +149,7 @@ class LookTest(unittest.TestCase):
                                  (4, 1, "Nil", ()), (5, 1, "Cons", (num(1), cell(3)))))
 
     def test_calls_thousands_deep(self):
-        program = DeepTest.DEEP
-        calls, cells = look(program, placed(program), "f", (NIL, 5000), 5 * 4000)
+        calls, cells = look(DEEP, placed(DEEP), "f", (NIL, 5000), 5 * 4000)
         self.assertEqual(len(calls), 4001)
         self.assertEqual(calls[3999][:2], ("f", 4))
         self.assertEqual(calls[4000], ("f", 0, ((0, cell(0)), (1, num(1000))), ()))

@@ -34,10 +34,11 @@ def most_deeds(placing):
     return max(len(deeds_at(placing, index, spot)) for index, spot in spots_of(placing))
 
 
-def with_level(placing, r, first, last, k=1):
+def with_level(placing, r, first, last, k=1, index=0):
     """k holds more of a register from the mid of one row of a line to the start of another one."""
-    placing = with_deeds(placing, 0, ("before", first), deeds_at(placing, 0, ("before", first)) + hold(r) * k)
-    return with_deeds(placing, 0, ("edge", last - 1, 0), deeds_at(placing, 0, ("edge", last - 1, 0)) + drop(r) * k)
+    for spot, deeds in ((("before", first), hold(r) * k), (("edge", last - 1, 0), drop(r) * k)):
+        placing = with_deeds(placing, index, spot, deeds_at(placing, index, spot) + deeds)
+    return placing
 
 
 class SameLogTest(unittest.TestCase):
