@@ -3,13 +3,14 @@
 import unittest
 
 from justfreed.checks import check
+from justfreed.errors import BadArgs, BadLimit, BadName, BadPlacing, BadProgram, NotChecked
 from justfreed.judging import judge
-from justfreed.machine import drive
+from justfreed.machine import drive, look
 from justfreed.placing import placed
 from justfreed.rooms import reusing
 from justfreed.running import run
 from tests.placings import bare, drop, free, hold, placing_of, with_deeds
-from tests.samples import BOTH, CALLS, DEEP, GROWS, KEEP, LIST_PROGRAM, PAIR, SIZE_KINDS, SIZES, TAIL, TWICE, cons, program_of
+from tests.samples import BOTH, CALLS, DEEP, GROWS, KEEP, LIST_PROGRAM, ODD, PAIR, SIZE_KINDS, SIZES, TAIL, TWICE, cons, program_of
 
 ALL = 100000
 NIL = ("Nil",)
@@ -456,6 +457,43 @@ class DeepTest(DriveTest):
         self.assertEqual(judge(program, told)[0], "right")
         many = 30000
         self.ends(program, told, (many,), many, (7 + 3 * many, 0, 1, many + 1, 0, many + 1, 0))
+
+
+class ErrorsTest(DriveTest):
+    GOOD = (KEEP, bare(KEEP), "f", (cons([1]), 5), 3)
+
+    def refuses(self, at, things, error):
+        """Each of the things in the place of one argument raises the error, whether or not those behind are right."""
+        for thing in things:
+            for function in (drive, look):
+                for rest in (self.GOOD[at + 1:], (None,) * (4 - at)):
+                    with self.assertRaises(error):
+                        function(*self.GOOD[:at], thing, *rest)
+
+    def test_programs_and_placings(self):
+        self.assertEqual(drive(*self.GOOD)[0], "ended")
+        self.refuses(0, ODD + (program_of(("give", 32)), list(KEEP)), BadProgram)
+        self.refuses(0, (program_of(("give", 0)), program_of(("number", 1, 0, 0))), NotChecked)
+        self.refuses(1, ODD + (bare(SIZES), bare(KEEP) * 2, placing_of(KEEP, {("entry",): hold(0) * 61}),
+                               placing_of(KEEP, {}, {0: 3}), list(bare(KEEP))), BadPlacing)
+
+    def test_names(self):
+        self.refuses(2, ODD + ("g", "F", "List", ["f"], ("f",), 0), BadName)
+        for name in ("f", "g"):
+            self.assertEqual(drive(CALLS, bare(CALLS), name, (NIL,), 9)[:2], ("ended", NIL))
+
+    def test_args(self):
+        tree = cons([1])
+        self.refuses(3, ODD + (
+            (), (tree,), (tree, 5, 5), [tree, 5], (5, tree), (tree, True), (tree, None), (tree, 10 ** 12 + 1), (tree, (5,)), (list(tree), 5),
+            (tree[:-1], 5), (tree + ("Nil",), 5), (("Cons", True, "Nil"), 5), (cons([1] * 200), 5)), BadArgs)
+        self.assertEqual(drive(KEEP, bare(KEEP), "f", (cons([1] * 199), -10 ** 12), 5)[2], (2, 0, 0, 0, 0, 200, 200))
+
+    def test_limits(self):
+        self.refuses(4, ODD + (-1, ALL + 1, True, False, None, "5", (5,), 10 ** 30), BadLimit)
+        for most, word in ((0, "on"), (1, "on"), (2, "ended"), (ALL, "ended")):
+            self.assertEqual(drive(*self.GOOD[:4], most)[0], word)
+            self.assertEqual(look(*self.GOOD[:4], most) is None, word == "ended")
 
 
 if __name__ == "__main__":

@@ -109,6 +109,18 @@ class PlainTest(SameLogTest):
         for other in [told] + late:
             self.both(program, held, other)
 
+    def test_a_register_that_is_held_oftener_where_it_need_not_be_held_at_all(self):
+        # Were it not lowered from above, and raised from below, it would be held once more where there is no hold.
+        program = program_of(*[("number", 2, 0, at + 1) for at in range(5)], ("give", 0), params=("List", "List"), result="List")
+        told = placed(program)
+        twice = placing_of(program, {("before", 0): hold(1), ("before", 2): drop(1, 1)})
+        thrice = placing_of(program, {("before", 0): hold(1), ("before", 1): hold(1), ("before", 2): drop(1), ("edge", 3, 0): drop(1, 1)})
+        steeply = placing_of(program, {("before", 1): hold(1), ("edge", 1, 0): hold(1, 1, 1), ("before", 3): drop(*(1,) * 5)})
+        for one in (told, twice, thrice, steeply):
+            self.assertEqual(judge(program, one)[0], "right")
+            for other in (told, twice, thrice, steeply):
+                self.leads(program, one, other)
+
     def test_idle_pairs(self):
         for idle in (hold(0) + drop(0), (hold(0) + drop(0)) * 14, hold(0, 1) + drop(0, 1), hold(0, 0) + drop(0, 0) + hold(1) + drop(1)):
             for spot in (("entry",), ("before", 0), ("edge", 1, 0), ("before", 4)):
@@ -285,6 +297,22 @@ class GreatTest(SameLogTest):
         self.assertEqual(deeds_in(one), 952)
         self.both(program, one, placed(program))
         self.both(program, one, with_level(placed(program), 0, 20, 40, 20))
+
+    def test_logs_that_would_be_too_long(self):
+        # Eight registers, each of them held once more at each row of one half, and once less at each of the other one.
+        kinds, ((_, *head),) = line(58)
+        program = (kinds, (("f", *head),) + tuple((f"f{at}", *head) for at in range(11)))
+        one = placed(program)
+        for index in range(12):
+            for at in range(28):
+                for r in range(8):
+                    one = with_level(one, (r + at) % 8, at, 58 - at, 1, index)
+        self.assertEqual(judge(program, one)[0], "right")
+        for first, second in ((one, placed(program)), (placed(program), one)):
+            try:
+                self.leads(program, first, second, 1)
+            except TooGreat:
+                self.assertGreater(deeds_in(one), 5000)
 
     def test_beyond(self):
         # A log, or TooGreat; what is more is not promised.

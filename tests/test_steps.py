@@ -158,6 +158,14 @@ class LevelTest(StepsTest):
             stepped(LINE, TOLD, level(0, (("mid", 0),), k))
         raised = stepped(LINE, TOLD, level(0, (("mid", 0),), 60))
         self.assertEqual(stepped(LINE, raised, level(0, (("mid", 0),), -60)), TOLD)
+        # Sixty deeds would be left behind 61 as well.
+        lowered = placing_of(LINE, {("entry",): hold(0), ("before", 0): drop(0), ("edge", 0, 0): hold(0), ("before", 2): drop(0)})
+        raised = placing_of(LINE, {("entry",): hold(0), ("before", 0): hold(0) * 60, ("edge", 0, 0): drop(0) * 60, ("before", 2): drop(0)})
+        self.assertEqual(judge(LINE, raised)[0], "right")
+        self.refuses(LINE, lowered, level(0, (("mid", 0),), 61))
+        self.refuses(LINE, raised, level(0, (("mid", 0),), -61))
+        self.assertEqual(replayed(LINE, lowered, (level(0, (("mid", 0),), 1), level(0, (("mid", 0),), 60))), raised)
+        self.assertEqual(replayed(LINE, raised, (level(0, (("mid", 0),), -1), level(0, (("mid", 0),), -60))), lowered)
 
     def test_what_is_no_points(self):
         for points in ((), (("start", 0), ("mid", 0)), (("mid", 1), ("mid", 0)), (("mid", 0), ("mid", 0)), (("mid", 3),),

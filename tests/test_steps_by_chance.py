@@ -1,8 +1,10 @@
 """[23] and [24]: many small programs, placings and steps, against tests/reference_steps.py and what must hold."""
 
+import random
 import unittest
 from collections import Counter
 
+from justfreed.checks import check
 from justfreed.errors import NotLet
 from justfreed.judging import judge
 from justfreed.placing import placed
@@ -10,6 +12,7 @@ from justfreed.steps import replayed, same_log, stepped
 from tests import reference_placings, reference_steps
 from tests.making_placings import any_deed, changed, raised
 from tests.placings import deeds_at, spots_of, with_deeds
+from tests.samples import program_of
 from tests.test_placings_by_chance import placings, programs
 
 
@@ -62,6 +65,33 @@ def right_placings(chance, program, many):
     return found
 
 
+def going_round(chance):
+    """Rows that lead on and back again; of four lists only the first is needed."""
+    many = chance.choice((1, 2, 4, 8))
+    rows = [("less", 8, 8, at + 2, chance.choice((at + 2, chance.randrange(at + 3)))) for at in range(many)]
+    return program_of(("number", 8, 0, 1), *rows, ("give", 0), params=("List",) * 4, result="List")
+
+
+def holding_any(chance, program, many):
+    """A right placing that holds its lists, needed or not, oftener here and there, behind so many tries."""
+    placing = placed(program)
+    rows = len(program[1][0][3])
+    points = [(word, at) for word in ("mid", "start") for at in range(rows) if (word, at) != ("mid", rows - 1)]
+    for _ in range(many):
+        first, last = sorted(chance.choices(range(rows), k=2))
+        among = [point for point in points if first <= point[1] <= last] if chance.random() < 0.5 else points
+        among = tuple(point for point in among if chance.random() < 0.95) or (("start", 0),)
+        _, spot = chance.choice(spots_of(placing))
+        deeds = deeds_at(placing, 0, spot)
+        for step in (("level", "f", chance.randrange(4), among, chance.choice((1, 1, 2, 3, -1, -1, -2))),
+                     ("spot", "f", spot, any_deeds(chance, deeds)[:60])):
+            try:
+                placing = stepped(program, placing, step)
+            except NotLet:
+                pass
+    return placing
+
+
 class StepsByChanceTest(unittest.TestCase):
     def test_steps_and_logs(self):
         told = Counter()
@@ -110,6 +140,21 @@ class StepsByChanceTest(unittest.TestCase):
                 for word, *_ in log:
                     told[word] += 1
         self.assertGreater(min(told[at] for at in (0, 1, 2, 3, 6, "level", "spot")), 20, told)
+
+    def test_same_log_of_lists_that_need_not_be_held(self):
+        told = Counter()
+        for seed in range(60):
+            chance = random.Random(seed)
+            program = going_round(chance)
+            if check(program) is not None:
+                continue
+            found = [placed(program)] + [holding_any(chance, program, chance.choice((3, 8, 20))) for _ in range(3)]
+            for one in found:
+                for other in found:
+                    log = same_log(program, one, other)
+                    self.assertEqual(replayed(program, one, log), other, (program, one, other))
+                    told[min(len(log) // 4, 3)] += 1
+        self.assertGreater(min(told[at] for at in range(4)), 20, told)
 
 
 if __name__ == "__main__":
