@@ -242,9 +242,9 @@ def has_tokens(placing):
 def walk_on(walk, table, goal_table):
     """Notes the steps of one function.
 
-    Behind each step a register is held as often as the lesser of the deeds at the begin and of the goal tells, with
-    a number added to one of both. Each spot then has net as many holds or drops as one of both has, or as many as lie
-    between, so that cut deeds want no more than there is, and of two spots with 28 deeds at most come no more than 56.
+    Behind each step a register is held as often as the lesser of what the begun placing and the goal tell, one of
+    both with a number added to it. So each spot has as many holds or drops of it, net, as in one of both, or a number
+    between; cut deeds then never want what is not there, and 28 deeds against 28 come to no more than 56 at a spot.
     """
     for spot, deeds in list(walk.deeds.items()):
         if deeds != walk.goal[spot]:
@@ -311,8 +311,8 @@ def level_off(walk, r, heights, sign):
         levels = levels[::-1]
     for low, high in levels:
         points = tuple(sorted([point for point, height in heights.items() if height >= high]))
-        for begin in range(low, high, MOST_LEVEL):
-            level(walk, r, points, sign * min(high - begin, MOST_LEVEL))
+        for at in range(low, high, MOST_LEVEL):
+            level(walk, r, points, sign * min(high - at, MOST_LEVEL))
 
 
 def moved(deeds, r, last):
@@ -324,7 +324,8 @@ def moved(deeds, r, last):
 
 def level(walk, r, points, k):
     """Raises the register by k at the points, by a step."""
-    for spot, deeds in leveled(walk.leads, walk.deeds, r, points, k).items():
+    changed = leveled(walk.leads, walk.deeds, r, points, k)
+    for spot, deeds in changed.items():
         if len(deeds) > MOST_DEEDS:
             raise TooGreat("a spot would have more than sixty deeds")
         walk.deeds[spot] = deeds

@@ -241,7 +241,7 @@ class GreatTest(SameLogTest):
 
     def test_up_to_1000_deeds_and_28_at_a_spot(self):
         sizes = []
-        for seed in range(10):
+        for seed in range(6):
             chance = random.Random(seed)
             program = line(chance.choice((5, 20, 57))) if seed % 2 else forking(chance, chance.choice((5, 20, 57)))
             self.assertIsNone(check(program))
