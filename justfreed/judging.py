@@ -208,23 +208,29 @@ class Line:
         self.behind = behind
 
 
+def joined(one, other):
+    """The effect of two effects, one behind the other."""
+    low, high, gain = one
+    least, most, change = other
+    return (max(low, least - gain), min(high, most - gain), gain + change)
+
+
 def effects(wants):
     """For each slot that is wanted somehow the effect of all of the wants together."""
     found = {}
     for _, slot, least, most, change in wants:
-        low, high, gain = found.get(slot, FREE)
-        found[slot] = (max(low, least - gain), min(high, most - gain), gain + change)
+        found[slot] = joined(found.get(slot, FREE), (least, most, change))
     return found
 
 
-def lines(course, wants, slots):
-    """For each of the slots the line of its number."""
+def lines(course, wants):
+    """For each slot that is wanted the line of its number."""
     begin = begin_state(course)
     entry = effects(wants.entry)
     ahead = [effects(row_wants) for row_wants in wants.ahead]
     behind = [[effects(edge) for edge in edges] for edges in wants.behind]
     found = []
-    for slot in slots:
+    for slot in wants.slots:
         slot_ahead = [row.get(slot, FREE) for row in ahead]
         slot_behind = [[edge.get(slot, FREE) for edge in edges] for edges in behind]
         found.append(Line(begin[slot], entry.get(slot, FREE), slot_ahead, slot_behind))
@@ -292,7 +298,7 @@ def judged(course, part):
     """A function's table, if the placing is right for it, and None; else None and (name, way, fault)."""
     wants = Wants(course, part)
     # A fault concerns one slot alone, so the first way that falls is that of some slot by itself.
-    told = [first_fall(line, course.leads) for line in lines(course, wants, wants.slots)]
+    told = [first_fall(line, course.leads) for line in lines(course, wants)]
     ways = [way for way, _ in told if way is not None]
     if not ways:
         return table_of(course.rows, wants.slots, [came for _, came in told]), None

@@ -2,7 +2,9 @@
 
 from justfreed.checks import checked
 from justfreed.errors import BadLog, HasTokens, NotLet, TooGreat
-from justfreed.judging import MOST_DEEDS, Wants, are_deeds, first_fall, judge, lines, need_placing, right_tables
+from justfreed.judging import (
+    FREE, MOST_DEEDS, Line, Wants, are_deeds, begin_state, deed_want, effects, first_fall, joined, judge, need_placing,
+    right_tables)
 from justfreed.programs import REGISTERS, begins_with_word, is_integer, is_register, is_tuple_of
 from justfreed.ways import courses
 
@@ -12,12 +14,31 @@ MOST_LEVEL = 60
 
 
 class Draft:
-    """A placing that steps change, with the program's courses, and whether it is known to be right."""
+    """What a placing has for a function, as steps change it: its deeds by spot.
+
+    Effects are those that judging tells of, by slot: of a row by itself, without deeds, and of each spot's deeds, as
+    far as these were asked for since they were put there.
+    """
+
+    def __init__(self, course, part):
+        wants = Wants(course, with_spots(part, {spot: () for spot in deeds_by_spot(part)}))
+        self.course = course
+        self.part = part
+        self.leads = spot_leads(course)
+        self.deeds = deeds_by_spot(part)
+        self.row_ahead = [effects(row_wants) for row_wants in wants.ahead]
+        self.row_behind = [[effects(edge) for edge in edges] for edges in wants.behind]
+        self.spot_effects = {}
+
+
+class Replay:
+    """A placing on which steps are done, with drafts of what they changed, and whether it is known to be right."""
 
     def __init__(self, program, placing):
         self.program = program
         self.courses = courses(program)
-        self.parts = list(placing)
+        self.placing = placing
+        self.drafts = {}
         self.right = False
 
 
@@ -39,29 +60,41 @@ def replayed(program, placing, log):
 
 def behind_steps(program, placing, steps):
     """The placing behind steps; raises NotLet of the first object that is no step, or is not let."""
-    draft = Draft(program, placing)
+    replay = Replay(program, placing)
     for index, step in enumerate(steps):
-        if not is_let(draft, step):
+        if not is_let(replay, step):
             raise NotLet(index)
-    return tuple(draft.parts)
+    return placing_behind(replay)
 
 
-def is_let(draft, step):
-    """Whether any object is a step that is let; the draft is the placing behind it then."""
-    at = index_of_step(draft.courses, step)
+def placing_behind(replay):
+    """The placing behind the steps that were done."""
+    parts = list(replay.placing)
+    for at, draft in replay.drafts.items():
+        parts[at] = with_spots(draft.part, draft.deeds)
+    return tuple(parts)
+
+
+def is_let(replay, step):
+    """Whether any object is a step that is let; it is done then."""
+    at = index_of_step(replay.courses, step)
     if at is None:
         return False
-    course = draft.courses[at]
-    spots = spots_behind(course, draft.parts[at], step)
+    if at not in replay.drafts:
+        replay.drafts[at] = Draft(replay.courses[at], replay.placing[at])
+    draft = replay.drafts[at]
+    spots = spots_behind(draft, step)
     if any([len(deeds) > MOST_DEEDS for deeds in spots.values()]):
         return False
-    slots = slots_changed(draft.parts[at], step)
-    draft.parts[at] = with_spots(draft.parts[at], spots)
-    if draft.right:
-        # What was right can fall by the slots alone of which deeds are changed.
-        return keeps_right(course, draft.parts[at], slots)
-    draft.right = judge(draft.program, tuple(draft.parts))[0] == "right"
-    return draft.right
+    slots = slots_changed(draft, step)
+    for spot, deeds in spots.items():
+        draft.deeds[spot] = deeds
+        draft.spot_effects.pop(spot, None)
+    if replay.right:
+        # What was right can fall by those slots alone of which deeds are changed.
+        return all([first_fall(line_of(draft, slot), draft.course.leads)[0] is None for slot in slots])
+    replay.right = judge(replay.program, placing_behind(replay))[0] == "right"
+    return replay.right
 
 
 def index_of_step(all_courses, thing):
@@ -148,13 +181,12 @@ def with_spots(part, spots):
     return (spots.get(("entry",), entry), tuple(changed))
 
 
-def spots_behind(course, part, step):
-    """The deeds, by spot, that spots have behind a step that it changes."""
+def spots_behind(draft, step):
+    """The deeds, by spot, of those spots that a step changes."""
     if step[0] == "spot":
         return {step[2]: step[3]}
     _, _, r, points, k = step
-    deeds = deeds_by_spot(part)
-    return leveled(spot_leads(course), deeds, r, points, k)
+    return leveled(draft.leads, draft.deeds, r, points, k)
 
 
 def leveled(leads, deeds, r, points, k):
@@ -188,26 +220,32 @@ def slot_of(deed):
     return REGISTERS + deed[1] if deed[0] == "free" else deed[1]
 
 
-def slots_changed(part, step):
+def slots_changed(draft, step):
     """The slots of which a step may change deeds."""
     if step[0] == "level":
         return [step[2]]
-    deeds = deeds_by_spot(part)[step[2]] + step[3]
-    return sorted({slot_of(deed) for deed in deeds})
+    return sorted({slot_of(deed) for deed in draft.deeds[step[2]] + step[3]})
 
 
-def keeps_right(course, part, slots):
-    """Whether no way of a function falls by one of the slots."""
-    wants = Wants(course, narrowed(part, slots))
-    return all([first_fall(line, course.leads)[0] is None for line in lines(course, wants, slots)])
+def effect_at(draft, spot, slot):
+    """The effect of a spot's deeds on a slot."""
+    if spot not in draft.spot_effects:
+        draft.spot_effects[spot] = effects([deed_want(deed) for deed in draft.deeds[spot]])
+    return draft.spot_effects[spot].get(slot, FREE)
 
 
-def narrowed(part, slots):
-    """What a placing has for a function, with the deeds of the slots alone."""
-    spots = {}
-    for spot, deeds in deeds_by_spot(part).items():
-        spots[spot] = tuple([deed for deed in deeds if slot_of(deed) in slots])
-    return with_spots(part, spots)
+def line_of(draft, slot):
+    """The line of a slot's number.
+
+    That nothing is left at a give is told for the slots that the begin or a row changes; of others there never is any.
+    """
+    ahead = []
+    behind = []
+    for row, edges in enumerate(draft.row_behind):
+        ahead.append(joined(effect_at(draft, ("before", row), slot), draft.row_ahead[row].get(slot, FREE)))
+        behind.append([joined(edge.get(slot, FREE), effect_at(draft, ("edge", row, which), slot))
+                       for which, edge in enumerate(edges)])
+    return Line(begin_state(draft.course)[slot], effect_at(draft, ("entry",), slot), ahead, behind)
 
 
 class Walk:

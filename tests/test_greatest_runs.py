@@ -83,10 +83,10 @@ class GreatestRunsTest(unittest.TestCase):
         behind = stepped(self.PROGRAM, self.TOLD, idle)
         self.assertEqual(behind, with_deeds(self.TOLD, 11, ("entry",), hold(0) + drop(0)))
         back = ("spot", "f11", ("entry",), ())
-        self.assertEqual(replayed(self.PROGRAM, self.TOLD, (idle, back) * 500), self.TOLD)
+        self.assertEqual(replayed(self.PROGRAM, self.TOLD, (idle, back) * 2000), self.TOLD)
         points = tuple((word, at) for word in ("mid", "start") for at in range(57))
         raised = ("level", "f0", 1, points, 50), ("level", "f0", 1, points, -50)
-        self.assertEqual(replayed(self.PROGRAM, self.TOLD, raised * 60), self.TOLD)
+        self.assertEqual(replayed(self.PROGRAM, self.TOLD, raised * 100), self.TOLD)
         with self.assertRaises(NotLet) as context:
             replayed(self.PROGRAM, self.FULL, (back, raised[0]))
         self.assertEqual(context.exception.index, 1)
