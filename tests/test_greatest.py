@@ -10,7 +10,7 @@ from tests.samples import LIST_PROGRAM, program_of
 
 ALL = 100000
 # Far above what is needed, so that a busy machine does not make the tests fail.
-SECONDS = 20
+SECONDS = 60
 
 KINDS = tuple(
     (f"Kind{kind}", tuple(

@@ -13,7 +13,7 @@ from tests.samples import chain, program_of
 from tests.test_greatest import great_program
 
 # Far above what is needed, so that a busy machine does not make the tests fail.
-SECONDS = 30
+SECONDS = 60
 
 PARTS = (("Part", tuple((f"P{at}", ()) for at in range(6))),)
 

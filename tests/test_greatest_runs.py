@@ -17,7 +17,7 @@ from tests.test_greatest_placings import stuffed
 from tests.test_same_log import line, with_level
 
 # Far above what is needed, so that a busy machine does not make the tests fail.
-SECONDS = 60
+SECONDS = 120
 IDLE = (hold(0) + drop(0)) * 30
 
 
